@@ -1,0 +1,1 @@
+"""Handwatch: a watch of three buttons."""
