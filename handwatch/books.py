@@ -1,4 +1,8 @@
-"""Books: what the maker of a watch says of its modes."""
+"""Books: what the maker of a watch says of its modes.
+
+A book is (hold, back, modes), a mode (face, stays, rows), a row (deed, next), one for each press.
+Each question may be asked of any thing; many is how many modes the book has.
+"""
 
 from handwatch.kinds import is_one_of, is_truth, is_tuple_of, is_within
 
@@ -26,7 +30,6 @@ MOST_MODES = 8
 
 
 def is_book(thing):
-    """Whether the thing, of whatever kind, is a book (hold, back, modes)."""
     if not is_tuple_of(thing, 3):
         return False
     return is_within(thing[0], 1, MOST_HOLD) and is_within(thing[1], 0, MOST_BACK) and are_modes(thing[2])
@@ -39,7 +42,6 @@ def are_modes(thing):
 
 
 def is_mode(thing, many):
-    """Whether the thing is a mode (face, stays, rows) of a book that has so many modes."""
     if not is_tuple_of(thing, 3):
         return False
     return is_one_of(thing[0], FACES) and is_truth(thing[1]) and are_rows(thing[2], many)
@@ -52,5 +54,4 @@ def are_rows(thing, many):
 
 
 def is_row(thing, many):
-    """Whether the thing is a pair (deed, next) in a book that has so many modes."""
     return is_tuple_of(thing, 2) and is_one_of(thing[0], DEEDS) and is_within(thing[1], 0, many - 1)

@@ -1,13 +1,16 @@
-"""The refusals of the program."""
+"""The refusals of the program.
+
+WatchError is any of them; NoText refuses a text that can't be read, NoDeed to take back what was never done.
+"""
 
 
 class WatchError(ValueError):
-    """Any refusal."""
+    pass
 
 
 class NoText(WatchError):
-    """A text that is none of those which can be read."""
+    pass
 
 
 class NoDeed(WatchError):
-    """There is nothing that could be taken back."""
+    pass

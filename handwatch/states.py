@@ -1,4 +1,8 @@
-"""States: all that a watch knows at one moment."""
+"""States: all that a watch knows at one moment.
+
+A state is (mode, clock, alarm, laps, count, ring, held, idle), with alarm (hour, minute, on), laps (many, runs, kept),
+count (minute, second, left, runs) and held None or (button, ticks). Each question may be asked of any thing.
+"""
 
 from handwatch.books import BUTTONS
 from handwatch.kinds import is_from, is_one_of, is_truth, is_tuple_of, is_within
@@ -10,7 +14,7 @@ FULL_RING = 10
 
 
 def begun(book):
-    """The state of a watch that was just made by this book."""
+    # Every book has a mode 0, so that the state is the same for all of them.
     alarm = (0, 0, False)
     laps = (0, False, ())
     count = (0, 0, 0, False)
@@ -18,10 +22,7 @@ def begun(book):
 
 
 def is_state(book, thing):
-    """Whether the thing, of whatever kind, is a state of a watch with this book.
-
-    A state is (mode, clock, alarm, laps, count, ring, held, idle).
-    """
+    # A book somewhat beyond its bounds is refused nowhere, so whether it is one is not asked.
     if not is_tuple_of(thing, 8):
         return False
     return (
@@ -37,14 +38,12 @@ def is_state(book, thing):
 
 
 def is_alarm(thing):
-    """Whether the thing is (hour, minute, on)."""
     if not is_tuple_of(thing, 3):
         return False
     return is_within(thing[0], 0, 23) and is_within(thing[1], 0, 59) and is_truth(thing[2])
 
 
 def is_laps(thing):
-    """Whether the thing is (many, runs, kept)."""
     if not is_tuple_of(thing, 3):
         return False
     return is_from(thing[0], 0) and is_truth(thing[1]) and is_kept(thing[2])
@@ -57,7 +56,6 @@ def is_kept(thing):
 
 
 def is_count(thing):
-    """Whether the thing is (minute, second, left, runs)."""
     if not is_tuple_of(thing, 4):
         return False
     return is_within(thing[0], 0, 59) and is_within(thing[1], 0, 59) and is_left_and_runs(thing[2], thing[3])
@@ -70,7 +68,6 @@ def is_left_and_runs(left, runs):
 
 
 def is_held(thing, hold):
-    """Whether the thing is None or (button, ticks) under a book with this hold."""
     if thing is None:
         return True
     return is_tuple_of(thing, 2) and is_one_of(thing[0], BUTTONS) and is_held_for(thing[1], hold)

@@ -1,5 +1,5 @@
-"""Holds the package's files to those rules of the language that can be seen file by file (L1, L2, L4, L6 to L10, L12,
-L14, L16, L17, L25); the others are left to the reader."""
+"""Holds the package's files to what is easily seen of the language's rules: parts of L1, L2, L4, L6, L7, L8, L10, L12,
+L14, L16, L17, L25 and L27. The rest of them, and the other rules, are left to the reader."""
 
 import ast
 import builtins
@@ -130,6 +130,13 @@ class Steps(unittest.TestCase):
         for path, node in nodes(ast.ListComp):
             self.assertEqual(len(node.generators), 1, path)
             self.assertLessEqual(len(node.generators[0].ifs), 1, path)
+
+    def test_only_calls_stand_by_themselves(self):
+        # The rules name a docstring at a file's top alone.
+        for path, tree in trees():
+            for node in ast.walk(tree):
+                if isinstance(node, ast.Expr) and node is not tree.body[0]:
+                    self.assertIsInstance(node.value, ast.Call, path)
 
     def test_functions(self):
         for path, node in nodes((ast.FunctionDef, ast.ClassDef)):
