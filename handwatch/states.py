@@ -1,12 +1,21 @@
 """States: all that a watch knows at one moment.
 
 A state is (mode, clock, alarm, laps, count, ring, held, idle), with alarm (hour, minute, on), laps (many, runs, kept),
-count (minute, second, left, runs) and held None or (button, ticks). Each question may be asked of any thing.
+count (minute, second, left, runs) and held None or (button, ticks); the names MODE to IDLE are their places in it.
+Each question may be asked of any thing.
 """
 
 from handwatch.books import BUTTONS
 from handwatch.kinds import is_from, is_one_of, is_truth, is_tuple_of, is_within
 
+MODE = 0
+CLOCK = 1
+ALARM = 2
+LAPS = 3
+COUNT = 4
+RING = 5
+HELD = 6
+IDLE = 7
 LAST_SECOND = 86399
 MOST_KEPT = 4
 MOST_LEFT = 3599
@@ -21,19 +30,23 @@ def begun(book):
     return (0, 0, alarm, laps, count, 0, None, 0)
 
 
+def put(state, place, part):
+    return state[:place] + (part,) + state[place + 1:]
+
+
 def is_state(book, thing):
     # A book somewhat beyond its bounds is refused nowhere, so whether it is one is not asked.
     if not is_tuple_of(thing, 8):
         return False
     return (
-        is_within(thing[0], 0, len(book[2]) - 1)
-        and is_within(thing[1], 0, LAST_SECOND)
-        and is_alarm(thing[2])
-        and is_laps(thing[3])
-        and is_count(thing[4])
-        and is_within(thing[5], 0, FULL_RING)
-        and is_held(thing[6], book[0])
-        and is_idle(thing[7], book[1])
+        is_within(thing[MODE], 0, len(book[2]) - 1)
+        and is_within(thing[CLOCK], 0, LAST_SECOND)
+        and is_alarm(thing[ALARM])
+        and is_laps(thing[LAPS])
+        and is_count(thing[COUNT])
+        and is_within(thing[RING], 0, FULL_RING)
+        and is_held(thing[HELD], book[0])
+        and is_idle(thing[IDLE], book[1])
     )
 
 
