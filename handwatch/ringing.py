@@ -1,6 +1,6 @@
 """When a watch rings, if nothing but ticks goes by."""
 
-from handwatch.ticking import behind_turn, first_ring, ring_ticks, stretches, turn_tick
+from handwatch.ticking import behind_turn, first_ring, ring_count, ring_ticks, stretches, turn_tick
 
 
 def rings(book, state, many):
@@ -8,6 +8,10 @@ def rings(book, state, many):
     for stretch in stretches(book, state, many):
         ticks.extend([stretch[0] + tick for tick in ring_ticks(stretch[1], stretch[2])])
     return tuple(ticks)
+
+
+def how_many_rings(book, state, many):
+    return sum([ring_count(stretch[1], stretch[2]) for stretch in stretches(book, state, many)])
 
 
 def next_ring(book, state):

@@ -53,6 +53,15 @@ def ring_ticks(state, many):
     return sorted(set(ticks))
 
 
+def ring_count(state, many):
+    # As many as ring_ticks tells, without a walk through the days.
+    alarm = alarm_tick(state)
+    count = count_tick(state)
+    of_alarm = 0 if alarm is None or alarm > many else (many - alarm) // DAY + 1
+    of_count = 0 if count is None or count > many or count == alarm else 1
+    return of_alarm + of_count
+
+
 def laps_on(laps, many):
     return (laps[0] + many, True, laps[2]) if laps[1] else laps
 

@@ -1,5 +1,6 @@
 """Books, states and odd things that several tests hand in, and a watch that goes tick by tick to hold them against."""
 
+import itertools
 import random
 
 PLAIN_ROWS = (("none", 0),) * 6
@@ -80,6 +81,28 @@ def odd_things():
             things.extend([wrapped(leaf, 1, kinds), wrapped(leaf, 12, kinds)])
     things.extend([as_lists(ORDINARY_BOOK), as_lists(ORDINARY_STATE)])
     return things
+
+
+def walk(book, presses, begin=0):
+    """The mode to which the presses lead, by their nexts."""
+    for press in presses:
+        begin = book[2][begin][2]["abcABC".index(press)][1]
+    return begin
+
+
+def texts_of(length):
+    """All texts of so many presses."""
+    return ["".join(signs) for signs in itertools.product("abcABC", repeat=length)]
+
+
+def chain(many, press, deeds=("none",) * 8, faces=("time",) * 8, back=0, stays=(True,) * 8):
+    """A book in which this press alone leads from each mode to the next one, the last one to itself."""
+    modes = []
+    for number in range(many):
+        rows = [(deeds[number], number)] * 6
+        rows["abcABC".index(press)] = (deeds[number], min(number + 1, many - 1))
+        modes.append(mode(faces[number], stays[number], tuple(rows)))
+    return (2, back, tuple(modes))
 
 
 def state(mode=0, clock=0, alarm=(0, 0, False), laps=(0, False, ()), count=(0, 0, 0, False), ring=0, held=None, idle=0):
@@ -243,6 +266,31 @@ class Chance:
             rows = tuple((self.pick(DEEDS), self.number(0, many - 1)) for press in range(6))
             modes.append(mode(self.pick(FACES), self.truth(), rows))
         return (self.number(1, 9), self.pick((0, 1, 2, 5, 20, 60)), tuple(modes))
+
+    def dull_book(self, most=8):
+        """Few faces and deeds, so that modes are often alike, and few nexts, so that some are not come to."""
+        many = self.number(1, most)
+        ends = [self.number(0, many - 1) for number in range(self.number(1, many))]
+        faces, deeds = self.pick((("time",), ("time", "laps"))), self.pick((("run",), ("run", "run", "run", "lap")))
+        modes = []
+        for number in range(many):
+            rows = tuple((self.pick(deeds), self.pick(ends)) for press in range(6))
+            modes.append(mode(self.pick(faces), self.truth() and self.truth(), rows))
+        return (self.number(1, 9), self.pick((0, 1, 60)), tuple(modes))
+
+    def told_otherwise(self, book, most=8):
+        """An alike book: modes told twice and others that are not come to as far as there is room, in another order."""
+        hold, back, modes = book
+        owners = list(range(len(modes))) + [self.number(0, len(modes) - 1) for number in range(most - len(modes))]
+        ahead, rest = owners[:1], owners[1:]
+        self.random.shuffle(rest)
+        owners = ahead + rest
+        told = []
+        for owner in owners:
+            face, stays, rows = modes[owner]
+            ends = [self.pick([k for k, other in enumerate(owners) if other == row[1]]) for row in rows]
+            told.append((face, stays, tuple((row[0], end) for row, end in zip(rows, ends))))
+        return (self.number(1, 9), self.number(0, 60), tuple(told))
 
     def state(self, book):
         left = self.pick((0, 1, 2, 5, 9, 30, 3599))
